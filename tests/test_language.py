@@ -25,6 +25,7 @@ BUILTIN_METHODS = set("""append clear copy count endswith extend find get index 
     """.split())
 SPECIAL_METHODS = set("""__init__ __eq__ __repr__ __str__ __len__ __enter__ __exit__ __call__ __iter__ __contains__
     __getitem__ __setitem__ __add__ __iadd__ __mul__ __rmul__""".split())
+# No operator may use += once a class of the package has __iadd__ (point 28), and so far nothing else needs it.
 NO_STATEMENTS = (ast.Global, ast.AsyncFunctionDef, ast.AsyncFor, ast.AsyncWith, ast.Await, ast.AugAssign, ast.Import)
 NOT_FROM_GENERATORS = ("sum", "min", "max", "sorted", "any", "all")
 

@@ -82,6 +82,16 @@ class Behind(unittest.TestCase):
         row = ["a", "b", "c"]
         self.assert_no_row(row, 2)
         self.assertEqual(row, ["a", "b", "c"])
+        row = ["a", "b", "a"]
+        self.assertEqual(behind(ab(), row), "t")
+        self.assertEqual(row, ["a", "b", "a"])
+
+    def test_a_changed_row_changes_no_later_answer(self):
+        machine, row = ab(), ["a", "b", "a"]
+        behind(machine, row)
+        row.clear()
+        self.assertEqual(behind(machine, row), "s")
+        self.assertEqual(behind(machine, ["a", "b", "a"]), "t")
 
 
 class Hopeful(unittest.TestCase):
