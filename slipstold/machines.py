@@ -1,7 +1,7 @@
 """Finite machines and their right rows."""
 
 from slipstold.errors import BadMachine, NoRow, Unlike
-from slipstold.names import are_names, is_name
+from slipstold.names import are_names, is_name, is_string_pair
 
 MOST_TOKENS = 4
 MOST_STATES = 6
@@ -43,13 +43,10 @@ class Machine:
         return self.origin
 
     def __getitem__(self, at):
-        if not isinstance(at, tuple) or len(at) != 2:
-            return None
-        state, token = at
         # What is no string may be no key of a dict at all.
-        if not isinstance(state, str) or not isinstance(token, str):
+        if not is_string_pair(at):
             return None
-        return self.arrows.get((state, token))
+        return self.arrows.get(at)
 
     def __iter__(self):
         # Without this Python would iterate by machine[0], machine[1] and so on, without end.

@@ -17,3 +17,8 @@ def are_names(value, most):
     if not all([is_name(item) for item in value]):
         return False
     return len(set(value)) == len(value)
+
+
+def is_string_pair(value):
+    """Whether the value is a tuple of two strings."""
+    return isinstance(value, tuple) and len(value) == 2 and all([isinstance(item, str) for item in value])

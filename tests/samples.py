@@ -5,6 +5,7 @@ import random
 
 from slipstold.errors import NoRow
 from slipstold.machines import Machine
+from slipstold.readers import Reader
 
 LETTERS = "abcd"
 STATES = ("p", "q", "r", "s", "t", "u")
@@ -34,7 +35,7 @@ def odd_values():
         set(), {"a"}, frozenset(), frozenset(["a"]), {None: 1}, {"a": 1}, [1], (1,), [None], ("",), [[]], [()],
         nested(list, 90), nested(tuple, 90), nested(dict, 90), frozenset([nested(tuple, 80)]),
         object(), int, str, len, lambda: None, generator(), iter(["a"]), ..., NotImplemented,
-        ValueError("a"), NoRow(1), ab(), [ab()], (ab(), "a"),
+        ValueError("a"), NoRow(1), ab(), [ab()], (ab(), "a"), Reader(ab(), {}), [Reader(ab(), {})],
     ]
 
 

@@ -3,7 +3,7 @@
 import inspect
 import unittest
 
-from slipstold import edits, errors, machines
+from slipstold import edits, errors, machines, readers, readings, rows, web
 
 FUNCTIONS = {
     machines: {
@@ -13,6 +13,16 @@ FUNCTIONS = {
     edits: {
         "source": ["script"], "target": ["script"], "cost": ["script"],
         "fewest": ["machine", "row"], "script_for": ["machine", "row"],
+    },
+    readings: {
+        "first": ["reader"], "configurations": ["reader"], "after": ["reader", "configuration", "token"],
+        "at_end": ["reader", "configuration"], "told": ["reader", "row"], "mends": ["reader", "row"],
+        "arrive": ["reader", "row"], "trail": ["reader", "row"], "mended": ["reader", "row"],
+    },
+    rows: {"alike": ["one", "other"], "late": ["reader"], "reachable": ["reader"]},
+    web: {
+        "begin": ["reader"], "steps": ["reader", "standing"], "ends": ["reader", "standing"],
+        "follow": ["reader", "standing", "script"], "useful": ["reader"],
     },
 }
 
@@ -40,6 +50,43 @@ class Interface(unittest.TestCase):
         self.assertIsInstance(own["start"], property)
         for name in ("__getitem__", "__contains__", "__eq__"):
             self.assertTrue(inspect.isfunction(own[name]), name)
+
+    def test_reader_and_its_methods_are_defined_in_the_class_itself(self):
+        self.assertEqual(readers.Reader.__module__, "slipstold.readers")
+        expected = inspect.signature(readers.Reader).parameters
+        self.assertEqual(list(expected), ["machine", "table", "hold"])
+        self.assertEqual(expected["hold"].kind, inspect.Parameter.KEYWORD_ONLY)
+        self.assertEqual(expected["hold"].default, 0)
+        own = vars(readers.Reader)
+        for name, more in (("table", []), ("with_hold", ["hold"]), ("with_action", ["state", "token", "action"])):
+            self.assertTrue(inspect.isfunction(own[name]), name)
+            self.assertEqual(parameters(own[name]), ["self"] + more, name)
+        for name in ("machine", "hold"):
+            self.assertIsInstance(own[name], property, name)
+        for name in ("__getitem__", "__eq__"):
+            self.assertTrue(inspect.isfunction(own[name]), name)
+
+    def test_arguments_of_readers_can_be_passed_by_their_names(self):
+        machine = machines.Machine(["a"], "s", {}, ["s"])
+        reader = readers.Reader(machine=machine, table={}, hold=1)
+        here = readings.first(reader=reader)
+        self.assertEqual(readings.configurations(reader=reader), [("s", (), 0), ("s", (), 1)])
+        self.assertEqual(readings.after(reader=reader, configuration=here, token="a"), (("s", (), 1), 1, 1))
+        self.assertEqual(readings.at_end(reader=reader, configuration=here), (0, 0))
+        self.assertEqual(readings.told(reader=reader, row=["a"]), [0])
+        self.assertEqual(readings.mends(reader=reader, row=["a"]), 1)
+        self.assertEqual(readings.arrive(reader=reader, row=["a"]), ("s", (), 1))
+        self.assertEqual(readings.trail(reader=reader, row=[]), [(0, "s", "end")])
+        self.assertEqual(readings.mended(reader=reader, row=["a"]), ([("drop", "a")], True))
+        self.assertIsNone(rows.alike(one=reader, other=reader))
+        self.assertIsNone(rows.late(reader=reader))
+        self.assertEqual(len(rows.reachable(reader=reader)), 2)
+        standing = web.begin(reader=reader)
+        self.assertEqual(web.steps(reader=reader, standing=standing),
+                         [(("drop", "a"), (("s", (), 1), "s"), 1, 1, 1)])
+        self.assertEqual(web.ends(reader=reader, standing=standing), (0, 0))
+        self.assertEqual(web.follow(reader=reader, standing=standing, script=()), (standing, 0, 0, 0))
+        self.assertEqual(len(web.useful(reader=reader)), 2)
 
     def test_arguments_can_be_passed_by_their_names(self):
         machine = machines.Machine(tokens=["a"], start="s", moves={}, finals=["s"])
