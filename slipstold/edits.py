@@ -28,11 +28,19 @@ def cost(script):
 
 def check_script(script):
     """Raise BadScript if the value is no script."""
+    place = bad_edit_place(script)
+    if place is not None:
+        raise BadScript(place)
+
+
+def bad_edit_place(script):
+    """None if the value is a script, otherwise the place that BadScript tells."""
     if not isinstance(script, (list, tuple)) or len(script) > LONGEST_SCRIPT:
-        raise BadScript(-1)
+        return -1
     for place, edit in enumerate(script):
         if not is_edit(edit):
-            raise BadScript(place)
+            return place
+    return None
 
 
 def is_edit(value):

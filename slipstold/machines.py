@@ -2,6 +2,7 @@
 
 from slipstold.errors import BadMachine, NoRow, Unlike
 from slipstold.names import are_names, is_name, is_string_pair
+from slipstold.searches import explored, shortest_way
 
 MOST_TOKENS = 4
 MOST_STATES = 6
@@ -98,16 +99,10 @@ def all_states(start, moves, finals):
 
 def reached(tokens, moves, state):
     """The sorted list of the states to which moves lead from the state, itself included."""
-    found = {state: True}
-    queue = [state]
-    while queue:
-        here = queue.pop()
-        for token in tokens:
-            ahead = moves.get((here, token))
-            if ahead is not None and ahead not in found:
-                found[ahead] = True
-                queue.append(ahead)
-    return sorted(found)
+    def leads(here):
+        return [(token, moves[here, token]) for token in tokens if (here, token) in moves]
+
+    return sorted(explored(state, leads))
 
 
 def leads_to(tokens, moves, state, finals):
@@ -123,6 +118,11 @@ def bad_place(tokens, row):
         if not isinstance(token, str) or token not in tokens:
             return place
     return None
+
+
+def is_token(machine, value):
+    """Whether the value is a token of the machine."""
+    return isinstance(value, str) and value in machine.tokens()
 
 
 def check_row(machine, row):
@@ -197,18 +197,10 @@ def least_row(tokens, first, step, wanted):
 
     step(node, token) is the next node, wanted(node) tells whether the search ends there.
     """
-    rows = {first: ()}
-    queue = [first]
-    at = 0
-    # The queue is in the order of the rows, so the first wanted node has the least row.
-    while at < len(queue):
-        node = queue[at]
-        if wanted(node):
-            return rows[node]
-        for token in tokens:
-            ahead = step(node, token)
-            if ahead not in rows:
-                rows[ahead] = rows[node] + (token,)
-                queue.append(ahead)
-        at = at + 1
-    return None
+    def leads(node):
+        return [(token, step(node, token)) for token in tokens]
+
+    row = shortest_way(first, leads, wanted)
+    if row is None:
+        return None
+    return tuple(row)

@@ -2,7 +2,7 @@
 
 from slipstold.errors import NoConfiguration, NoRow
 from slipstold.integers import is_integer_between
-from slipstold.machines import check_row
+from slipstold.machines import check_row, is_token
 from slipstold.readers import looks_again, state_behind
 
 
@@ -45,7 +45,7 @@ def check_configuration(reader, value):
 def after(reader, configuration, token):
     """The configuration behind the token, whether an error is told at it (1 or 0), and the mends at it."""
     check_configuration(reader, configuration)
-    if not isinstance(token, str) or token not in reader.machine.tokens():
+    if not is_token(reader.machine, token):
         raise NoRow(0)
     return advance(reader, configuration, token)
 

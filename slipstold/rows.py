@@ -3,6 +3,7 @@
 from slipstold.errors import Unlike
 from slipstold.machines import hopeful, least_row
 from slipstold.readings import advance, closing, first
+from slipstold.searches import explored
 
 
 def alike(one, other):
@@ -43,13 +44,8 @@ def late(reader):
 def reachable(reader):
     """The sorted list of the configurations to which some row leads."""
     tokens = reader.machine.tokens()
-    found = {first(reader): True}
-    queue = [first(reader)]
-    while queue:
-        here = queue.pop()
-        for token in tokens:
-            ahead = advance(reader, here, token)[0]
-            if ahead not in found:
-                found[ahead] = True
-                queue.append(ahead)
-    return sorted(found)
+
+    def leads(configuration):
+        return [(token, advance(reader, configuration, token)[0]) for token in tokens]
+
+    return sorted(explored(first(reader), leads))

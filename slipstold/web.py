@@ -4,6 +4,7 @@ from slipstold.edits import check_script, writing_cost, writing_edit
 from slipstold.errors import NoStanding, TooMany
 from slipstold.machines import hopeful, trimmed
 from slipstold.readings import advance, closing, first, is_configuration
+from slipstold.searches import explored
 
 MOST_STANDINGS = 200
 
@@ -50,6 +51,11 @@ def steps_from(reader, right, standing):
 def ends(reader, standing):
     """What is told and mended at the end, or None if no road ends at the standing."""
     check_standing(reader, standing)
+    return end_at(reader, standing)
+
+
+def end_at(reader, standing):
+    """What ends returns, for a good standing."""
     configuration, state = standing
     if state not in reader.machine.finals():
         return None
@@ -76,15 +82,17 @@ def follow(reader, standing, script):
 
 def useful(reader):
     """The sorted list of all standings to which steps lead from the first one."""
+    return list(all_steps(reader))
+
+
+def all_steps(reader):
+    """A dict from all useful standings, in sorted order, to what steps returns for them."""
     right = trimmed(reader.machine)
-    found = {begin(reader): True}
-    queue = [begin(reader)]
-    while queue:
-        here = queue.pop()
-        for step in steps_from(reader, right, here):
-            if step[1] not in found:
-                found[step[1]] = True
-                queue.append(step[1])
-        if len(found) > MOST_STANDINGS:
-            raise TooMany(MOST_STANDINGS)
-    return sorted(found)
+
+    def leads(standing):
+        return steps_from(reader, right, standing)
+
+    found = explored(begin(reader), leads)
+    if len(found) > MOST_STANDINGS:
+        raise TooMany(MOST_STANDINGS)
+    return {standing: found[standing] for standing in sorted(found)}

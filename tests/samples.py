@@ -82,3 +82,51 @@ def random_machines(seed, many, **limits):
     for _ in range(many):
         parts = random_parts(chance, **limits)
         yield parts, Machine(*parts)
+
+
+def parts_of_200():
+    """The parts and the table of a reader with 200 useful standings: 40 configurations and 5 hopeful states."""
+    moves = {("s", "d"): "p", ("s", "a"): "r", ("q", "a"): "p", ("p", "b"): "u", ("u", "a"): "t", ("t", "d"): "u"}
+    table = {("q", "c"): ("pass", ("d",), "q"), ("r", "b"): ("pass", ("d",), "p"),
+             ("r", "d"): ("pass", ("a", "c"), "q"), ("u", "d"): ("pass", ("c",), "t")}
+    return (("a", "b", "c", "d"), "s", moves, ("t", "r")), table
+
+
+def parts_of_201():
+    """The parts and the table of a reader with 201 useful standings: 67 configurations and 3 hopeful states."""
+    table = {("s", "c"): ("pass", ("b",), "t"), ("s", "d"): ("pass", ("a", "b", "c"), "t"),
+             ("t", "a"): ("pass", ("c", "d"), "w"), ("t", "c"): ("pass", ("d",), "x"),
+             ("t", "d"): ("pass", ("a", "b", "c"), "x"), ("u", "a"): ("pass", ("d",), "w"),
+             ("u", "d"): ("pass", ("a", "b"), "s"), ("v", "b"): ("pass", ("a", "c", "d"), "t"),
+             ("v", "d"): ("pass", ("a",), "w"), ("w", "a"): ("pass", ("b", "c", "d"), "v"),
+             ("x", "a"): ("pass", ("b", "d"), "u")}
+    moves = {("s", "a"): "t", ("t", "b"): "u"}
+    return (("a", "b", "c", "d"), "s", moves, ("u", "v", "w", "x")), table
+
+
+def long_reader(parts, table):
+    """The reader made of these parts, with the longest hold."""
+    return Reader(Machine(*parts), table, hold=3)
+
+
+def parts_with_excess():
+    """The parts and the table of a reader with 200 useful standings; with the hold 3 its excess for told is 3."""
+    moves = {("p", "b"): "q", ("p", "d"): "q", ("q", "a"): "r", ("q", "c"): "t", ("q", "d"): "s", ("r", "c"): "r",
+             ("r", "d"): "t", ("s", "a"): "r", ("t", "a"): "t"}
+    table = {("p", "a"): ("pass", ("a", "c", "d"), "t"), ("p", "c"): ("pass", ("b",), "p"),
+             ("q", "b"): ("pass", ("a", "d"), "p"), ("r", "a"): ("pass", ("a", "b", "d"), "p"),
+             ("r", "b"): ("pass", ("a", "b", "c", "d"), "p"), ("s", "b"): ("pass", ("a", "d"), "s"),
+             ("s", "c"): ("pass", ("a",), "q"), ("t", "b"): ("pass", ("a", "d"), "s"),
+             ("t", "c"): ("pass", ("a", "b", "d"), "r"), ("t", "d"): ("pass", ("c",), "s")}
+    return (("a", "b", "c", "d"), "p", moves, ("t",)), table
+
+
+def parts_with_ratio():
+    """The parts and the table of a reader with 200 useful standings; with the hold 3 its ratio for told is (3, 2)."""
+    moves = {("p", "a"): "p", ("p", "b"): "s", ("p", "c"): "r", ("q", "d"): "s", ("r", "a"): "s", ("r", "c"): "q",
+             ("s", "a"): "t", ("t", "c"): "q"}
+    table = {("p", "d"): ("pass", ("a", "c"), "s"), ("q", "a"): ("pass", ("b", "c", "d"), "s"),
+             ("q", "c"): ("pass", ("b", "d"), "p"), ("r", "b"): ("pass", ("c",), "t"),
+             ("r", "d"): ("pass", ("b",), "r"), ("s", "b"): ("pass", ("d",), "q"), ("s", "c"): ("jump", "p"), ("s", "d"): ("jump", "r"),
+             ("t", "a"): ("jump", "q")}
+    return (("a", "b", "c", "d"), "p", moves, ("s",)), table

@@ -3,7 +3,7 @@
 import inspect
 import unittest
 
-from slipstold import edits, errors, machines, readers, readings, rows, web
+from slipstold import bursts, choices, edits, errors, excess, machines, ratio, readers, readings, rows, web
 
 FUNCTIONS = {
     machines: {
@@ -24,6 +24,21 @@ FUNCTIONS = {
         "begin": ["reader"], "steps": ["reader", "standing"], "ends": ["reader", "standing"],
         "follow": ["reader", "standing", "script"], "useful": ["reader"],
     },
+    excess: {
+        "excess": ["reader", "measure"], "script_of": ["reader", "measure"], "paper": ["reader", "measure"],
+        "paper_fault": ["reader", "measure", "paper", "most"], "ring": ["reader", "measure"],
+        "ring_fault": ["reader", "measure", "ahead", "turn", "behind"], "turned": ["ahead", "turn", "behind", "n"],
+    },
+    ratio: {
+        "ratio": ["reader", "measure"], "constant": ["reader", "measure", "p"], "prices": ["reader", "measure", "p"],
+        "prices_fault": ["reader", "measure", "p", "prices", "c"], "tight": ["reader", "measure"],
+        "slip": ["reader", "measure"],
+    },
+    bursts: {
+        "bursts": ["reader", "measure", "n"], "burst_script": ["reader", "measure", "n"],
+        "per_edit": ["reader", "measure"],
+    },
+    choices: {"least_hold": ["reader", "measure", "p"], "best": ["reader", "measure", "choices"]},
 }
 
 
@@ -87,6 +102,30 @@ class Interface(unittest.TestCase):
         self.assertEqual(web.ends(reader=reader, standing=standing), (0, 0))
         self.assertEqual(web.follow(reader=reader, standing=standing, script=()), (standing, 0, 0, 0))
         self.assertEqual(len(web.useful(reader=reader)), 2)
+
+    def test_arguments_behind_a_measure_can_be_passed_by_their_names(self):
+        machine = machines.Machine(["a"], "s", {}, ["s"])
+        given = {"reader": readers.Reader(machine=machine, table={}), "measure": "told"}
+        here = web.begin(reader=given["reader"])
+        self.assertEqual(excess.excess(**given), 0)
+        self.assertEqual(excess.script_of(**given), [])
+        self.assertEqual(excess.paper(**given), {here: 0})
+        self.assertIsNone(excess.paper_fault(**given, paper={here: 0}, most=0))
+        self.assertIsNone(excess.ring(**given))
+        drop = [("drop", "a")]
+        self.assertEqual(excess.ring_fault(**given, ahead=[], turn=drop, behind=[]), "gain")
+        self.assertEqual(excess.turned(ahead=[], turn=drop, behind=[], n=1), drop)
+        self.assertEqual(ratio.ratio(**given), (1, 1))
+        self.assertEqual(ratio.constant(**given, p=(1, 1)), (0, 1))
+        self.assertEqual(ratio.prices(**given, p=(1, 1)), {here: (0, 1)})
+        self.assertIsNone(ratio.prices_fault(**given, p=(1, 1), prices={here: (0, 1)}, c=(0, 1)))
+        self.assertEqual(ratio.tight(**given), ([], drop, []))
+        self.assertIsNone(ratio.slip(**given))
+        self.assertEqual(bursts.bursts(**given, n=1), [0, 1])
+        self.assertEqual(bursts.burst_script(**given, n=1), drop)
+        self.assertEqual(bursts.per_edit(**given), (1, 1))
+        self.assertEqual(choices.least_hold(**given, p=(1, 2)), 1)
+        self.assertEqual(choices.best(**given, choices=[]), [()])
 
     def test_arguments_can_be_passed_by_their_names(self):
         machine = machines.Machine(tokens=["a"], start="s", moves={}, finals=["s"])

@@ -60,6 +60,12 @@ def own_methods(tree):
             for method in item.body if isinstance(method, ast.FunctionDef)}
 
 
+def defined_names(tree):
+    """The names that a file itself defines at module level."""
+    return {name for item in tree.body if isinstance(item, (ast.FunctionDef, ast.ClassDef, ast.Assign))
+            for part in (item.targets if isinstance(item, ast.Assign) else [item]) for name in bound_names(part)}
+
+
 class Files(unittest.TestCase):
     def test_the_folder_holds_nothing_but_plain_files(self):
         for path in PACKAGE.rglob("*"):
@@ -91,9 +97,7 @@ class Files(unittest.TestCase):
                 self.assertIsInstance(item, allowed, f"{path.name}:{item.lineno}")
 
     def test_imports_name_the_defining_file_of_the_package(self):
-        defined = {"slipstold." + path.stem: {item.name for item in tree.body
-                                              if isinstance(item, (ast.FunctionDef, ast.ClassDef))}
-                   for path, tree in trees()}
+        defined = {"slipstold." + path.stem: defined_names(tree) for path, tree in trees()}
         for where, node in nodes():
             if isinstance(node, ast.ImportFrom):
                 self.assertEqual(node.level, 0, where)

@@ -11,35 +11,10 @@ from slipstold.readings import at_end, configurations, mends, told
 from slipstold.rows import reachable
 from slipstold.web import begin, ends, follow, steps, useful
 from tests import plain
-from tests.samples import ab, all_rows, odd_values
+from tests.samples import ab, all_rows, long_reader, odd_values, parts_of_200, parts_of_201
 
 # The state q is a dead end to which s and u have moves.
 DEAD_END = Machine(("a", "b"), "s", {("s", "a"): "t", ("s", "b"): "q", ("t", "b"): "s", ("u", "a"): "t"}, ("t",))
-
-
-def parts_of_200():
-    """The parts and the table of a reader with 200 useful standings: 40 configurations and 5 hopeful states."""
-    moves = {("s", "d"): "p", ("s", "a"): "r", ("q", "a"): "p", ("p", "b"): "u", ("u", "a"): "t", ("t", "d"): "u"}
-    table = {("q", "c"): ("pass", ("d",), "q"), ("r", "b"): ("pass", ("d",), "p"), ("r", "d"): ("pass", ("a", "c"), "q"),
-             ("u", "d"): ("pass", ("c",), "t")}
-    return (("a", "b", "c", "d"), "s", moves, ("t", "r")), table
-
-
-def parts_of_201():
-    """The parts and the table of a reader with 201 useful standings: 67 configurations and 3 hopeful states."""
-    table = {("s", "c"): ("pass", ("b",), "t"), ("s", "d"): ("pass", ("a", "b", "c"), "t"),
-             ("t", "a"): ("pass", ("c", "d"), "w"), ("t", "c"): ("pass", ("d",), "x"),
-             ("t", "d"): ("pass", ("a", "b", "c"), "x"), ("u", "a"): ("pass", ("d",), "w"),
-             ("u", "d"): ("pass", ("a", "b"), "s"), ("v", "b"): ("pass", ("a", "c", "d"), "t"),
-             ("v", "d"): ("pass", ("a",), "w"), ("w", "a"): ("pass", ("b", "c", "d"), "v"),
-             ("x", "a"): ("pass", ("b", "d"), "u")}
-    moves = {("s", "a"): "t", ("t", "b"): "u"}
-    return (("a", "b", "c", "d"), "s", moves, ("u", "v", "w", "x")), table
-
-
-def long_reader(parts, table):
-    """The reader made of these parts, with the longest hold."""
-    return Reader(Machine(*parts), table, hold=3)
 
 
 def pass_reader(hold=0):
