@@ -58,8 +58,8 @@ def fewest(machine, row):
     """The least cost of a script that makes the row right."""
     check_row(machine, row)
     right = trimmed(machine)
-    costs = all_costs(right, row)[-1]
-    return min([costs[state] for state in right.finals()])
+    costs = all_costs(list_arrows(right), right.start, row)[-1]
+    return least_at(right.finals(), costs)
 
 
 def script_for(machine, row):
@@ -67,7 +67,7 @@ def script_for(machine, row):
     check_row(machine, row)
     right = trimmed(machine)
     arrows = list_arrows(right)
-    costs = all_costs(right, row)
+    costs = all_costs(arrows, right.start, row)
     state = cheapest(right.finals(), costs[-1])
     at = len(row)
     script = []
@@ -90,13 +90,17 @@ def cheapest(states, costs):
     return min([(costs[state], state) for state in states])[1]
 
 
-def all_costs(machine, row):
-    """A list of dicts: item k has for each state the least cost of a script from the first k tokens to it.
+def least_at(states, costs):
+    """The least cost at one of the states."""
+    return min([costs[state] for state in states])
 
-    All states of the machine must be hopeful: then puts alone lead to each of them, and no dict lacks one.
+
+def all_costs(arrows, first, row):
+    """A list of dicts: item k has for states the least cost of a script from the first state there over k tokens.
+
+    A state to which no script leads is left out. From the start puts alone lead to each state, if all are hopeful.
     """
-    arrows = list_arrows(machine)
-    costs = [with_puts(arrows, {machine.start: 0})]
+    costs = [with_puts(arrows, {first: 0})]
     for token in row:
         costs.append(with_puts(arrows, behind_token(arrows, costs[-1], token)))
     return costs
@@ -119,7 +123,9 @@ def behind_token(arrows, costs, token):
     """The costs when the token was kept, turned or dropped and no put follows yet."""
     least = {state: costs[state] + 1 for state in costs}
     for state, written, ahead in arrows:
-        least[ahead] = min(least[ahead], costs[state] + writing_cost(token, written))
+        if state in costs:
+            paid = costs[state] + writing_cost(token, written)
+            least[ahead] = min(paid, least.get(ahead, paid))
     return least
 
 

@@ -116,6 +116,11 @@ def edit_of(token, deed):
 def told(reader, row):
     """The sorted list of the places where an error is told."""
     check_row(reader.machine, row)
+    return told_in(reader, row)
+
+
+def told_in(reader, row):
+    """What told returns, for a good row."""
     places, works, configuration = through(reader, row)
     if closing(reader, configuration)[0] == 1:
         places.append(len(row))
@@ -125,6 +130,11 @@ def told(reader, row):
 def mends(reader, row):
     """The number of all mends, the end's included."""
     check_row(reader.machine, row)
+    return mends_in(reader, row)
+
+
+def mends_in(reader, row):
+    """What mends returns, for a good row."""
     places, works, configuration = through(reader, row)
     return works + closing(reader, configuration)[1]
 

@@ -85,6 +85,19 @@ raises TooLow""",
 >>> from slipstold.bursts import bursts
 >>> bursts(Reader(ab, {}), "told", 2)
 [0, 2, 4]""",
+    WITH_READER + """
+>>> from slipstold.far import told_far
+>>> told_far(Reader(ab, {}), ((), ("b",), 10 ** 20, ()))
+100000000000000000000""",
+    AB + """
+>>> from slipstold.texts import machine_text
+>>> machine_text(ab)
+'tokens a b\\nstart s\\nmove s a t\\nmove t b s\\nfinal s'""",
+    """
+>>> from slipstold.machines import Machine
+>>> from slipstold.texts import read_machine
+>>> read_machine("tokens a b\\nstart s\\nfinal  s")
+raises NoText""",
 ]
 
 
@@ -103,6 +116,9 @@ def run(example):
 
 
 class WorkedExamples(unittest.TestCase):
+    def test_their_number(self):
+        self.assertEqual(len(EXAMPLES), 21)
+
     def test_all(self):
         for example in EXAMPLES:
             found, expected = run(example)

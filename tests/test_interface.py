@@ -3,7 +3,8 @@
 import inspect
 import unittest
 
-from slipstold import bursts, choices, edits, errors, excess, machines, ratio, readers, readings, rows, web
+from slipstold import (bursts, choices, edits, errors, excess, far, live, machines, ratio, readers, readings, rows,
+                       summaries, texts, web)
 
 FUNCTIONS = {
     machines: {
@@ -39,6 +40,14 @@ FUNCTIONS = {
         "per_edit": ["reader", "measure"],
     },
     choices: {"least_hold": ["reader", "measure", "p"], "best": ["reader", "measure", "choices"]},
+    far: {
+        "told_far": ["reader", "far"], "mends_far": ["reader", "far"], "arrive_far": ["reader", "far"],
+        "fewest_far": ["machine", "far"], "told_place": ["reader", "far", "k"], "last_told": ["reader", "far"],
+    },
+    live: {"rehearse": ["reading", "action"]},
+    texts: {
+        "machine_text": ["machine"], "read_machine": ["text"], "reader_text": ["reader"], "read_reader": ["text"],
+    },
 }
 
 
@@ -80,6 +89,48 @@ class Interface(unittest.TestCase):
             self.assertIsInstance(own[name], property, name)
         for name in ("__getitem__", "__eq__"):
             self.assertTrue(inspect.isfunction(own[name]), name)
+
+    def test_summary_and_its_methods_are_defined_in_the_class_itself(self):
+        self.assertEqual(summaries.Summary.__module__, "slipstold.summaries")
+        self.assertEqual(parameters(summaries.Summary), ["reader", "row"])
+        own = vars(summaries.Summary)
+        self.assertEqual(parameters(own["no_more_than"]), ["self", "other"])
+        self.assertIsInstance(own["reader"], property)
+        for name in ("__getitem__", "__add__", "__iadd__", "__mul__", "__rmul__", "__eq__"):
+            self.assertTrue(inspect.isfunction(own[name]), name)
+
+    def test_reading_and_its_methods_are_defined_in_the_class_itself(self):
+        self.assertEqual(live.Reading.__module__, "slipstold.live")
+        self.assertEqual(parameters(live.Reading), ["reader"])
+        own = vars(live.Reading)
+        for name, more in (("row", []), ("told", []), ("mends", []), ("arrived", []), ("drop_at", ["k"]),
+                           ("feed", ["tokens"]), ("trial", ["tokens"])):
+            self.assertTrue(inspect.isfunction(own[name]), name)
+            self.assertEqual(parameters(own[name]), ["self"] + more, name)
+        self.assertTrue(inspect.isgeneratorfunction(own["feed"]))
+        self.assertIsInstance(own["reader"], property)
+        for name in ("__iadd__", "__len__", "__getitem__", "__setitem__", "__enter__", "__exit__"):
+            self.assertTrue(inspect.isfunction(own[name]), name)
+
+    def test_arguments_of_the_last_modules_can_be_passed_by_their_names(self):
+        machine = machines.Machine(["a"], "s", {}, ["s"])
+        reader = readers.Reader(machine=machine, table={})
+        row = ((), ("a",), 3, ())
+        self.assertEqual(far.told_far(reader=reader, far=row), 3)
+        self.assertEqual(far.mends_far(reader=reader, far=row), 3)
+        self.assertEqual(far.arrive_far(reader=reader, far=row), ("s", (), 0))
+        self.assertEqual(far.fewest_far(machine=machine, far=row), 3)
+        self.assertEqual(far.told_place(reader=reader, far=row, k=1), 1)
+        self.assertEqual(far.last_told(reader=reader, far=row), 2)
+        summary = summaries.Summary(reader=reader, row=["a"])
+        self.assertTrue(summary.no_more_than(other=summary))
+        reading = live.Reading(reader=reader)
+        self.assertEqual(list(reading.feed(tokens=["a"])), [(0, 1)])
+        self.assertEqual(reading.trial(tokens=["a"]), [0, 1])
+        self.assertEqual(live.rehearse(reading=reading, action=len), 1)
+        self.assertEqual(reading.drop_at(k=0), "a")
+        self.assertEqual(texts.read_machine(text=texts.machine_text(machine=machine)), machine)
+        self.assertEqual(texts.read_reader(text=texts.reader_text(reader=reader)), reader)
 
     def test_arguments_of_readers_can_be_passed_by_their_names(self):
         machine = machines.Machine(["a"], "s", {}, ["s"])
