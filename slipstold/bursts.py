@@ -69,14 +69,16 @@ def end_top(graph, number):
 def all_tops(graph, n):
     """A list of lists: item k has for each number of the graph the top of what can come from there for k edits."""
     keeps = [[arc for arc in arcs if arc[3] == 0] for arcs in graph.arcs]
-    paid = [[arc for arc in arcs if arc[3] == 1] for arcs in graph.arcs]
     tops = [with_keeps(keeps, [end_top(graph, number) for number in range(len(keeps))])]
     while len(tops) <= n:
-        found = []
-        for number, arcs in enumerate(paid):
-            found.append(greatest([end_top(graph, number)] + [raised(tops[-1][arc[1]], arc[2]) for arc in arcs]))
-        tops.append(with_keeps(keeps, found))
+        tops.append(with_keeps(keeps, [paid_top(graph, number, tops[-1]) for number in range(len(keeps))]))
     return tops
+
+
+def paid_top(graph, number, below):
+    """The top of the end and of what begins with a step that costs one edit; below has the tops for one edit less."""
+    paid = [raised(below[arc[1]], arc[2]) for arc in graph.arcs[number] if arc[3] == 1]
+    return greatest([end_top(graph, number)] + paid)
 
 
 def greatest(tops):

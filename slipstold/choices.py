@@ -81,6 +81,8 @@ def grade_of(reader, measure):
 
 def precedes(one, other):
     """Whether one grade is less than the other."""
-    if one is None or other is None:
-        return one is not None and other is None
+    if one is None:
+        return False
+    if other is None:
+        return True
     return is_less(one[0], other[0]) or (one[0] == other[0] and is_less(one[1], other[1]))

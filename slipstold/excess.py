@@ -14,9 +14,7 @@ LONGEST_RESULT = 5000
 
 def excess(reader, measure):
     """The greatest of measure minus cost over all rows, or None if there is no greatest."""
-    check_measure(measure)
-    graph = Graph(reader, measure)
-    values, turn = climb(graph, ONE)
+    graph, values, turn = climbed(reader, measure)
     if values is None:
         return None
     return values[graph.entry]
@@ -24,9 +22,7 @@ def excess(reader, measure):
 
 def script_of(reader, measure):
     """A road whose measure minus its cost is the excess, or None if the excess is None."""
-    check_measure(measure)
-    graph = Graph(reader, measure)
-    values, turn = climb(graph, ONE)
+    graph, values, turn = climbed(reader, measure)
     if values is None:
         return None
     return edits_of(best_road(graph, ONE, values))
@@ -34,12 +30,18 @@ def script_of(reader, measure):
 
 def paper(reader, measure):
     """A dict from all useful standings to the greatest of measure minus cost from there on, or None."""
-    check_measure(measure)
-    graph = Graph(reader, measure)
-    values, turn = climb(graph, ONE)
+    graph, values, turn = climbed(reader, measure)
     if values is None:
         return None
     return {standing: values[number] for number, standing in enumerate(graph.standings)}
+
+
+def climbed(reader, measure):
+    """The graph of the reader, and what climb returns where each edit counts as much as the measure."""
+    check_measure(measure)
+    graph = Graph(reader, measure)
+    values, turn = climb(graph, ONE)
+    return graph, values, turn
 
 
 def paper_fault(reader, measure, paper, most):
@@ -63,9 +65,7 @@ def integer_as_fraction(value):
 
 def ring(reader, measure):
     """Scripts to a standing, back to it with a gain, and from it to an end; None if the excess is not None."""
-    check_measure(measure)
-    graph = Graph(reader, measure)
-    values, turn = climb(graph, ONE)
+    graph, values, turn = climbed(reader, measure)
     if turn is None:
         return None
     return loop_scripts(graph, turn)

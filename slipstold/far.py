@@ -133,18 +133,17 @@ def place_of(reader, far, left):
 
 
 def seek(reader, spot, row):
-    """Where the last of so many errors is told in the row, or the end of the row.
+    """The spot behind the row.
 
-    A spot is a configuration, the place of a token and the number of errors still to be told. At the error that is
-    sought none is left, and the spot stays there.
+    A spot is a configuration, a place and the number of errors that are still to be told. The place goes on with the
+    tokens, but stays at the error that is sought: behind it no more are left.
     """
     configuration, place, left = spot
     for token in row:
+        configuration, tells, works = advance(reader, configuration, token)
+        left = left - tells
         if left > 0:
-            configuration, tells, works = advance(reader, configuration, token)
-            left = left - tells
-            if left > 0:
-                place = place + 1
+            place = place + 1
     return configuration, place, left
 
 

@@ -8,8 +8,16 @@ from slipstold.quotients import check_ratio, is_fraction, lowest
 
 def ratio(reader, measure):
     """The least fraction p for which p times the cost plus some number bounds the measure, or None."""
+    graph, p, turn = steepest_of(reader, measure)
+    return p
+
+
+def steepest_of(reader, measure):
+    """The graph of the reader, its ratio, and a ring that has the ratio or None."""
     check_measure(measure)
-    return steepest(Graph(reader, measure))[0]
+    graph = Graph(reader, measure)
+    p, turn = steepest(graph)
+    return graph, p, turn
 
 
 def constant(reader, measure, p):
@@ -58,9 +66,7 @@ def fraction_or_none(value):
 
 def tight(reader, measure):
     """Scripts to a ring whose measure is the ratio times its cost, around it and on; None for a ratio None or 0."""
-    check_measure(measure)
-    graph = Graph(reader, measure)
-    p, turn = steepest(graph)
+    graph, p, turn = steepest_of(reader, measure)
     if p is None or turn is None:
         return None
     return loop_scripts(graph, turn)
@@ -68,9 +74,7 @@ def tight(reader, measure):
 
 def slip(reader, measure):
     """Scripts to a ring that costs nothing and brings errors, around it and on; None if the ratio is not None."""
-    check_measure(measure)
-    graph = Graph(reader, measure)
-    p, turn = steepest(graph)
+    graph, p, turn = steepest_of(reader, measure)
     if p is not None:
         return None
     return loop_scripts(graph, turn)

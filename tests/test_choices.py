@@ -160,6 +160,14 @@ class Best(unittest.TestCase):
         self.assertEqual(best(reader, "told", [(("s", "b"), ("jump", "t"), SKIP)]), [(1,)])
         self.assertEqual(best(reader, "told", [(("s", "b"), SKIP, ("jump", "t"))]), [(0,)])
 
+    def test_a_less_ratio_counts_more_than_a_less_constant(self):
+        reader = Reader(Machine(["b"], "q", {("r", "b"): "r"}, ["r", "q"]), {}, hold=3)
+        one, other = reader.with_action("q", "b", ("jump", "r")), reader
+        self.assertEqual([ratio(one, "told"), constant(one, "told", (0, 1))], [(0, 1), (1, 1)])
+        self.assertEqual([ratio(other, "told"), constant(other, "told", (1, 4))], [(1, 4), (3, 4)])
+        self.assertEqual(best(reader, "told", [(("q", "b"), ("jump", "r"), SKIP)]), [(0,)])
+        self.assertEqual(best(reader, "told", [(("q", "b"), SKIP, ("jump", "r"))]), [(1,)])
+
     def test_equal_ratios_and_different_constants(self):
         found = 0
         for parts, table, hold, reader in plain.random_readers(502, 400, most_tokens=2, most_states=3):

@@ -105,6 +105,18 @@ class Files(unittest.TestCase):
                     self.assertIn(alias.name, defined[node.module], where)
 
 
+    def test_no_two_files_import_from_each_other(self):
+        wanted = {path.stem: {node.module.split(".")[-1] for node in ast.walk(tree) if isinstance(node, ast.ImportFrom)}
+                  for path, tree in trees()}
+        for name in wanted:
+            found, queue = set(), [name]
+            while queue:
+                more = wanted[queue.pop()] - found
+                found |= more
+                queue += more
+            self.assertNotIn(name, found)
+
+
 class Code(unittest.TestCase):
     def test_statements_and_values(self):
         for where, node in nodes():
@@ -119,6 +131,12 @@ class Code(unittest.TestCase):
                 for operator, right in zip(node.ops, node.comparators):
                     if isinstance(operator, (ast.Is, ast.IsNot)):
                         self.assertIn(ast.unparse(right), ("None", "True", "False"), where)
+
+    def test_powers(self):
+        for where, node in nodes():
+            if isinstance(node, ast.BinOp) and isinstance(node.op, ast.Pow):
+                self.assertIsInstance(node.right, ast.Constant, where)
+                self.assertLessEqual(node.right.value, 64, where)
 
     def test_bound_names(self):
         for where, node in nodes():

@@ -257,11 +257,16 @@ class Equality(unittest.TestCase):
         self.assertFalse(Summary(reader, ("a",)) == Summary(reader, ("b",)))
         self.assertTrue(Summary(reader, ("a",)) == Summary(pass_reader(), ["a"]))
         self.assertTrue(Summary(reader, ("a",)) != Summary(pass_reader(2), ("a",)))
+        # The final states matter at the end of a row alone, but they make another reader.
+        other = Reader(Machine(("a", "b"), "s", ab().moves(), ("s", "t")), reader.table(), hold=1)
+        self.assertEqual(values(Summary(reader, ("b", "a"))), values(Summary(other, ("b", "a"))))
+        self.assertFalse(Summary(reader, ("b", "a")) == Summary(other, ("b", "a")))
         # They differ in mends alone.
-        counting = Reader(Machine(["a", "b"], "s", {}, ["s", "t"]), {("s", "a"): ("jump", "t"), ("t", "a"): ("skip",),
-                                                                     ("s", "b"): ("skip",), ("t", "b"): ("skip",)})
+        machine = Machine(["a", "b", "c", "d"], "s", {("s", "c"): "t", ("t", "d"): "s"}, ["s"])
+        counting = Reader(machine, {("s", "b"): ("put", "c"), ("t", "a"): ("take", "d"), ("t", "b"): ("take", "d")})
         one, two = Summary(counting, ("a",)), Summary(counting, ("b",))
-        self.assertEqual([one["t", (), 0], two["t", (), 0]], [(("t", (), 0), 1, 1)] * 2)
+        self.assertEqual([one["t", (), 0], two["t", (), 0]], [(("s", (), 0), 1, 1)] * 2)
+        self.assertEqual([one["s", (), 0], two["s", (), 0]], [(("s", (), 0), 1, 1), (("s", (), 0), 1, 2)])
         self.assertFalse(one == two)
 
     def test_by_chance(self):
